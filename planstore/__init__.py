@@ -1,0 +1,1 @@
+"""Tables kept through falls, and questions answered by the cheapest plan."""
