@@ -26,6 +26,11 @@ def small_schema():
     return Schema(TABLES, ORDERS)
 
 
+def whole(disk):
+    """All that a disk has, and how many writes have come."""
+    return (disk.log_rows(), [disk.page(slot) for slot in range(8)], disk.writes())
+
+
 class Case(unittest.TestCase):
     def refused(self, error, values, call, *args):
         """The call is refused with just this class, which has just these values by name."""

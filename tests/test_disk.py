@@ -3,15 +3,11 @@
 import random
 import unittest
 
-from helper import Case
+from helper import Case, whole
 from planstore.disk import Disk
 from planstore.errors import Fell
 
 SLOTS = range(8)
-
-
-def whole(disk):
-    return (disk.log_rows(), [disk.page(slot) for slot in SLOTS], disk.writes())
 
 
 class DiskCase(Case):
