@@ -3,6 +3,7 @@
 from planstore.errors import NoColumn, WrongKind
 from planstore.words import is_whole, value_text
 
+SIGNS = ("=", "<>", "<", "<=", ">", ">=")
 OPPOSITE = {"=": "<>", "<>": "=", "<": ">=", ">=": "<", ">": "<=", "<=": ">"}
 
 # How close a condition ties its words: what ties less than its place asks for stands in brackets.

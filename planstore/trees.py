@@ -2,6 +2,8 @@
 
 from planstore.errors import Alike, NoColumn, WrongKind
 
+SUM_WORDS = ("count", "sum", "least", "greatest")
+
 
 def need_column(columns, name):
     if name not in dict(columns):

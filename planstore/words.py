@@ -21,6 +21,14 @@ def is_name(thing):
     return 1 <= len(thing) <= LONGEST_NAME and has_only(LETTERS, thing)
 
 
+# Of a question: ALIAS.COLUMN, or a made name, which has no point.
+def is_column_name(thing):
+    if not isinstance(thing, str):
+        return False
+    names = thing.split(".")
+    return len(names) <= 2 and all([is_name(name) for name in names])
+
+
 def is_value(kind, thing):
     if kind == "number":
         return is_whole(thing) and -GREATEST <= thing <= GREATEST

@@ -1,8 +1,10 @@
-"""What the tests have in common: a schema, odd things, and how a refusal is looked at."""
+"""What the tests have in common: a schema, odd things, questions by chance, and how a refusal is looked at."""
 
 import unittest
 
+from planstore.conditions import And, Compare, Not, Or
 from planstore.schema import Schema
+from planstore.trees import Choose, First, Group, Keep, Product, Scan, Sort
 
 TABLES = [
     ("people", [("id", "number"), ("city", "word"), ("age", "number")]),
@@ -20,6 +22,7 @@ ODD_KEYS = [
     b"people", (), ("people",), ("id",), frozenset(), object(), 10 ** 39, len, int,
 ]
 ODD_THINGS = ODD_KEYS + [[], ["people"], {}, {"people": "id"}, set(), {"people"}, bytearray(b"id")]
+SIGNS = ("=", "<>", "<", "<=", ">", ">=")
 
 
 def small_schema():
@@ -29,6 +32,75 @@ def small_schema():
 def whole(disk):
     """All that a disk has, and how many writes have come."""
     return (disk.log_rows(), [disk.page(slot) for slot in range(8)], disk.writes())
+
+
+class Growth:
+    """Trees by chance, whose columns the small schema doesn't refuse; at most so many scans in each."""
+
+    def __init__(self, chance, scans=4):
+        self.chance = chance
+        self.scans = scans
+        self.names = 0
+
+    def new_name(self, head):
+        self.names += 1
+        return head + "abcdefghijklmnopqrstuvwxyz"[self.names // 26] + "abcdefghijklmnopqrstuvwxyz"[self.names % 26]
+
+    def columns(self, tree):
+        return tree.columns_told(small_schema())
+
+    def some(self, things, least=1):
+        return self.chance.sample(things, self.chance.randint(least, len(things)))
+
+    def compare(self, columns):
+        name, kind = self.chance.choice(columns)
+        others = [other for other, of_kind in columns if of_kind == kind]
+        value = self.chance.randint(-3, 30) if kind == "number" else self.chance.choice(["a", "oslo", "rome", "x"])
+        right = self.chance.choice([("value", value), ("column", self.chance.choice(others))])
+        return Compare(name, self.chance.choice(SIGNS), right)
+
+    def cond(self, columns, deep):
+        if deep == 1 or self.chance.random() < 0.4:
+            return self.compare(columns)
+        kind = self.chance.choice([And, Or, Not])
+        if kind is Not:
+            return Not(self.cond(columns, deep - 1))
+        return kind(self.cond(columns, deep - 1), self.cond(columns, deep - 1))
+
+    def sums(self, columns, least):
+        sums = []
+        for turn in range(self.chance.randint(least, 3)):
+            word = self.chance.choice(["count", "sum", "least", "greatest"])
+            names = [name for name, kind in columns if word != "sum" or kind == "number"]
+            if word == "count" or not names:
+                sums.append(("count", None, self.new_name("n")))
+            else:
+                sums.append((word, self.chance.choice(names), self.new_name("n")))
+        return sums
+
+    def tree(self, deep):
+        kind = self.chance.choice([Scan, Choose, Choose, Keep, Product, Product, Group, Sort, First])
+        if deep == 1 or kind is Scan or (kind is Product and self.scans < 2):
+            table = self.chance.choice(["people", "cities"])
+            return Scan(table, self.new_name("t"))
+        if kind is Product:
+            self.scans -= 1
+            return Product(self.tree(deep - 1), self.tree(deep - 1))
+        return self.over(kind, self.tree(deep - 1))
+
+    def over(self, kind, part):
+        columns = self.columns(part)
+        names = [name for name, of_kind in columns]
+        if kind is Choose:
+            return Choose(self.cond(columns, 3), part)
+        if kind is Keep:
+            return Keep(self.some(names), part)
+        if kind is Group:
+            by = self.some(names, 0)
+            return Group(by, self.sums(columns, 0 if by else 1), part)
+        if kind is Sort:
+            return Sort([(name, self.chance.random() < 0.5) for name in self.some(names)], part)
+        return First(self.chance.choice([0, 1, 2, 3, 5, 1000]), part)
 
 
 class Case(unittest.TestCase):

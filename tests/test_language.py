@@ -37,6 +37,14 @@ FREE_VALUES = "count index title find get join lower upper split strip copy add"
 PYTHONS_OWN = {name for kind in (str, int, list, dict, set, bytes) for name in dir(kind)}
 
 
+WALKED = ("zip", "enumerate", "reversed", "range")
+WALKED_METHODS = ("items", "keys", "values")
+WALKERS = ("list", "tuple", "dict", "sorted", "sum", "any", "all", "enumerate", "zip")
+KEYWORDS = {"sorted": ("key", "reverse"), "min": ("key", "default"), "max": ("key", "default"), "sum": ("start",),
+            "enumerate": ("start",), "zip": ("strict",)}
+CHANGES = "append clear extend insert pop remove reverse setdefault update".split()
+
+
 def package_files():
     return sorted(PACKAGE.glob("*.py"))
 
@@ -81,6 +89,20 @@ def bound_within(path):
         if isinstance(node, ast.Name) and isinstance(node.ctx, ast.Store) and id(node) not in at_top:
             names.append(node.id)
     return names
+
+
+def with_parents(path):
+    """All nodes of a file, each with the node right above it."""
+    return [(node, above) for above in ast.walk(tree_of_file(path)) for node in ast.iter_child_nodes(above)]
+
+
+def called(node):
+    """The name by which a call calls, of Python's own or the program's; None of a method's call and of what is no call."""
+    return node.func.id if isinstance(node, ast.Call) and isinstance(node.func, ast.Name) else None
+
+
+def method_called(node):
+    return node.func.attr if isinstance(node, ast.Call) and isinstance(node.func, ast.Attribute) else None
 
 
 class LanguageTest(unittest.TestCase):
@@ -180,6 +202,41 @@ class LanguageTest(unittest.TestCase):
         for node, place in self.each(ast.BinOp):
             if isinstance(node.op, ast.Pow):
                 self.assertIsInstance(node.right, ast.Constant, place)
+
+    def test_walked_at_once(self):
+        for path in package_files():
+            for node, above in with_parents(path):
+                if called(node) not in WALKED and not (method_called(node) in WALKED_METHODS and not node.args):
+                    continue
+                walked = isinstance(above, (ast.For, ast.comprehension)) and above.iter is node
+                first = called(above) in WALKERS and above.args[0] is node
+                alone = called(above) in ("min", "max") and above.args == [node]
+                self.assertTrue(walked or first or alone, f"{path.name}:{node.lineno}")
+
+    def test_sets(self):
+        for path in package_files():
+            for node, above in with_parents(path):
+                if called(node) == "set" or isinstance(node, ast.Set):
+                    asked = isinstance(above, ast.Compare) and isinstance(above.ops[0], (ast.In, ast.NotIn, ast.Eq, ast.NotEq))
+                    within = called(above) in ("sorted", "len") and not above.keywords
+                    self.assertTrue(asked or within, f"{path.name}:{node.lineno}")
+
+    def test_keywords(self):
+        for node, place in self.each(ast.Call):
+            for keyword in node.keywords:
+                self.assertIn(keyword.arg, KEYWORDS.get(called(node), ()), place)
+                if keyword.arg in ("reverse", "strict"):
+                    self.assertIsInstance(keyword.value, ast.Constant, place)
+
+    def test_nothing_is_kept_at_a_files_top(self):
+        for path in package_files():
+            at_top = set(top_names(path)) | set(imported_names(path))
+            for node in nodes_of(path, ast.Call, ast.Subscript):
+                thing = node.func.value if method_called(node) in CHANGES else None
+                if isinstance(node, ast.Subscript) and isinstance(node.ctx, ast.Store):
+                    thing = node.value
+                if isinstance(thing, ast.Name):
+                    self.assertNotIn(thing.id, at_top, f"{path.name}:{node.lineno}")
 
     def test_names(self):
         for path in package_files():
