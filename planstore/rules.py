@@ -22,7 +22,7 @@ def is_choose_of_product(tree):
     return isinstance(tree, Choose) and isinstance(tree.part, Product)
 
 
-# A keep and a choose put the rows in order by the whole row, which undoes the order of these.
+# A keep puts the rows in order by the whole row, which undoes the order of these.
 def has_order_of_its_own(tree):
     return isinstance(tree, (Sort, First))
 
