@@ -26,6 +26,11 @@ def stands(sign, one, other):
     return one >= other
 
 
+# None leaves a side without a bound.
+def is_between(value, low, high):
+    return (low is None or low <= value) and (high is None or value <= high)
+
+
 def kind_of_value(value):
     return "number" if is_whole(value) else "word"
 

@@ -1,6 +1,6 @@
 """The plain answer of a question: its rows made node by node, and put in order at each."""
 
-from planstore.trees import Choose, First, Group, Keep, Product, Scan, names_of
+from planstore.trees import Choose, First, Group, Keep, Product, Scan, names_told
 
 
 def picked(row, places):
@@ -69,7 +69,7 @@ def rows_after(tree, lists, schema):
     rows = lists[0]
     if isinstance(tree, First):
         return rows[:tree.many]
-    names = names_of(tree.part.columns_told(schema))
+    names = names_told(tree.part, schema)
     if isinstance(tree, Choose):
         return rows_chosen(tree.cond, names, rows)
     if isinstance(tree, Keep):
@@ -87,5 +87,5 @@ def rows_read(tree, schema, reader):
 
 def plain_answer(tree, schema, reader):
     # asked ahead of all reading, for what the columns are refused for
-    names = names_of(tree.columns_told(schema))
+    names = names_told(tree, schema)
     return (names, rows_read(tree, schema, reader))

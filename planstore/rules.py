@@ -1,13 +1,9 @@
 """Rules: each makes another tree of a tree, with the same columns and the same answer."""
 
 from planstore.conditions import And, Compare
-from planstore.trees import Choose, First, Group, Keep, Product, Sort, names_of
+from planstore.trees import Choose, First, Group, Keep, Product, Sort, names_told
 
 MIRRORED = {"=": "=", "<>": "<>", "<": ">", ">": "<", "<=": ">=", ">=": "<="}
-
-
-def names_told(tree, schema):
-    return names_of(tree.columns_told(schema))
 
 
 def all_among(names, others):

@@ -44,8 +44,14 @@ def sum_text(word, name, new):
     return " ".join([word, new] if word == "count" else [word, name, new])
 
 
-def key_text(name, down):
-    return name + " down" if down else name
+# Without names, or without sums, nothing stands there, nor its blank.
+def group_text(by, sums):
+    texts = [sum_text(word, name, new) for word, name, new in sums]
+    return " ".join(list(by) + [":"] + ([" , ".join(texts)] if texts else []))
+
+
+def keys_text(by):
+    return " , ".join([name + " down" if down else name for name, down in by])
 
 
 class Tree:
@@ -194,10 +200,7 @@ class Group(Tree):
         return ("group", self.by, self.sums, self.part.told())
 
     def text(self):
-        words = [self.part.text(), "| group"] + list(self.by) + [":"]
-        if self.sums:
-            words.append(" , ".join([sum_text(word, name, new) for word, name, new in self.sums]))
-        return " ".join(words)
+        return self.part.text() + " | group " + group_text(self.by, self.sums)
 
 
 class Sort(Tree):
@@ -221,7 +224,7 @@ class Sort(Tree):
         return ("sort", self.by, self.part.told())
 
     def text(self):
-        return self.part.text() + " | sort " + " , ".join([key_text(name, down) for name, down in self.by])
+        return self.part.text() + " | sort " + keys_text(self.by)
 
 
 class First(Tree):
@@ -244,6 +247,10 @@ class First(Tree):
 
     def text(self):
         return self.part.text() + " | first " + str(self.many)
+
+
+def names_told(tree, schema):
+    return names_of(tree.columns_told(schema))
 
 
 def leaves_beneath(tree):

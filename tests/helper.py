@@ -3,6 +3,9 @@
 import unittest
 
 from planstore.conditions import And, Compare, Not, Or
+from planstore.makes import Makes
+from planstore.plans import Along, Fetching, Firsts, Grouping, Matching, Narrow, Ordering, Pairing, Sift, Through
+from planstore.readers import AtMake
 from planstore.schema import Schema
 from planstore.trees import Choose, First, Group, Keep, Product, Scan, Sort
 
@@ -101,6 +104,80 @@ class Growth:
         if kind is Sort:
             return Sort([(name, self.chance.random() < 0.5) for name in self.some(names)], part)
         return First(self.chance.choice([0, 1, 2, 3, 5, 1000]), part)
+
+
+class PlanGrowth(Growth):
+    """Plans by chance, which the small schema doesn't refuse."""
+
+    ORDERED = [("people", "id", "number"), ("people", "city", "word"), ("people", "age", "number"),
+               ("cities", "name", "word")]
+
+    def columns(self, thing):
+        return Growth.columns(self, thing.reading() if hasattr(thing, "reading") else thing)
+
+    def bound(self, kind):
+        if self.chance.random() < 0.3:
+            return None
+        return self.chance.randint(-1, 6) if kind == "number" else self.chance.choice("abc")
+
+    def along(self):
+        table, column, kind = self.chance.choice(self.ORDERED)
+        low = self.bound(kind)
+        high = low if self.chance.random() < 0.2 else self.bound(kind)
+        return Along(table, self.new_name("t"), column, low, high)
+
+    def pairs(self, one, other):
+        pairs = [(name, other_name) for name, kind in self.columns(one) for other_name, other_kind in self.columns(other)
+                 if kind == other_kind]
+        return self.chance.sample(pairs, min(len(pairs), self.chance.choice([1, 1, 2, 3])))
+
+    def two(self, deep):
+        self.scans -= 1
+        one, other = self.plan(deep - 1), self.plan(deep - 1)
+        pairs = self.pairs(one, other)
+        return Matching(one, other, pairs) if pairs and self.chance.random() < 0.7 else Pairing(one, other)
+
+    def fetching(self, deep):
+        self.scans -= 1
+        one = self.plan(deep - 1)
+        table, column, kind = self.chance.choice(self.ORDERED)
+        probes = [name for name, of_kind in self.columns(one) if of_kind == kind]
+        if not probes:
+            return one
+        return Fetching(one, table, self.new_name("t"), column, self.chance.choice(probes))
+
+    def plan(self, deep):
+        kind = self.chance.choice(["leaf", "two", "two", "fetch", "fetch", "sift", "narrow", "group", "sort", "first"])
+        if deep == 1 or kind == "leaf" or (kind in ("two", "fetch") and self.scans < 2):
+            table = self.chance.choice(["people", "cities"])
+            return self.along() if self.chance.random() < 0.6 else Through(table, self.new_name("t"))
+        if kind == "two":
+            return self.two(deep)
+        if kind == "fetch":
+            return self.fetching(deep)
+        return self.piece_over(kind, self.plan(deep - 1))
+
+    def piece_over(self, kind, part):
+        tree = self.over({"sift": Choose, "narrow": Keep, "group": Group, "sort": Sort, "first": First}[kind], part)
+        if kind == "sift":
+            return Sift(tree.cond, part)
+        if kind == "narrow":
+            return Narrow(tree.kept, part)
+        if kind == "group":
+            return Grouping(tree.by, tree.sums, part)
+        return Ordering(tree.by, part) if kind == "sort" else Firsts(tree.many, part)
+
+
+def rows_by(chance, most=6):
+    """Rows of the small schema's tables by chance, with few unlike values."""
+    people = chance.sample(range(9), chance.randint(0, most))
+    cities = chance.sample("abcdef", chance.randint(0, min(most, 6)))
+    return {"people": [(key, chance.choice("abc"), chance.randrange(4)) for key in people],
+            "cities": [(key, chance.randrange(4)) for key in cities]}
+
+
+def reader_of(rows):
+    return AtMake(Makes(small_schema(), rows), 0)
 
 
 class Case(unittest.TestCase):
