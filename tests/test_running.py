@@ -136,6 +136,16 @@ class PiecesTest(RunCase):
         self.runs(Ordering([("p.age", True)], ages), [(30,), (30,), (30,), (12,), (9,)], 10)
         self.runs(Grouping([], [COUNT], Pairing(sizes, ages)), [(20,)], 38 + 20)
 
+    def test_parts_whose_rows_stand_otherwise(self):
+        down = Ordering([("p.id", True)], P)
+        rows = [one + other for one in PEOPLE for other in CITIES if one[1] == other[0]]
+        self.runs(Matching(down, C, [("p.city", "c.name")]), rows, 23)
+        self.runs(Fetching(down, "cities", "c", "name", "p.city"), rows, 15)
+        self.runs(Pairing(down, C), [one + other for one in PEOPLE for other in CITIES], 29)
+        self.runs(Sift(OLD, down), [PEOPLE[0]] + PEOPLE[2:], 10)
+        self.runs(Narrow(["p.city", "p.id"], down), sorted([(row[1], row[0]) for row in PEOPLE]), 10)
+        self.runs(Matching(C, down, [("c.name", "p.city")]), sorted([row[3:] + row[:3] for row in rows]), 23)
+
     def test_parts_without_rows(self):
         self.reader = reader_of({})
         for plan, touched in ((P, 0), (Along("people", "p", "id", None, None), 1), (Sift(OLD, P), 0), (Pairing(P, C), 0),
@@ -160,6 +170,7 @@ class PiecesTest(RunCase):
         rows = [one + other for one in PEOPLE for other in CITIES if one[1] == other[0]]
         self.runs(Matching(P, C, [("c.name", "p.city")]), rows, 23)
         self.runs(Matching(P, C, [("p.city", "c.name"), ("p.age", "p.age")]), rows, 23)
+        self.runs(Matching(P, C, [("p.city", "c.name"), ("c.size", "c.size")]), rows, 23)
         self.runs(Fetching(P, "cities", "c", "name", "c.name"), [one + other for one in PEOPLE for other in CITIES], 30)
 
 
