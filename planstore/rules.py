@@ -45,11 +45,16 @@ def with_cleared(tree, schema):
     return Choose(tree.cond.cleared(), tree.part) if isinstance(tree, Choose) else None
 
 
-def mirrored(tree, schema):
-    if not isinstance(tree, Choose) or not isinstance(tree.cond, Compare) or tree.cond.right[0] != "column":
+# None where the condition is no compare of a column with a column.
+def mirror_of(cond):
+    if not isinstance(cond, Compare) or cond.right[0] != "column":
         return None
-    cond = tree.cond
-    return Choose(Compare(cond.right[1], MIRRORED[cond.sign], ("column", cond.left)), tree.part)
+    return Compare(cond.right[1], MIRRORED[cond.sign], ("column", cond.left))
+
+
+def mirrored(tree, schema):
+    cond = mirror_of(tree.cond) if isinstance(tree, Choose) else None
+    return None if cond is None else Choose(cond, tree.part)
 
 
 def into_one(tree, schema):

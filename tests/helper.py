@@ -127,8 +127,8 @@ class PlanGrowth(Growth):
         return Along(table, self.new_name("t"), column, low, high)
 
     def pairs(self, one, other):
-        pairs = [(name, other_name) for name, kind in self.columns(one) for other_name, other_kind in self.columns(other)
-                 if kind == other_kind]
+        others = self.columns(other)
+        pairs = [(name, alike) for name, kind in self.columns(one) for alike, of_kind in others if kind == of_kind]
         return self.chance.sample(pairs, min(len(pairs), self.chance.choice([1, 1, 2, 3])))
 
     def two(self, deep):

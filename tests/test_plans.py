@@ -58,7 +58,8 @@ PIECES = [
      "through people as p | sift p.age > 11"),
     (Sift(And(Or(OLD, LIKE), Not(SIZE)), Pairing(THROUGH_P, THROUGH_C)), [Pairing(THROUGH_P, THROUGH_C)],
      Choose(And(Or(OLD, LIKE), Not(SIZE)), Product(P, C)),
-     ("sift", And(Or(OLD, LIKE), Not(SIZE)).told(), ("pairing", ("through", "people", "p"), ("through", "cities", "c"))),
+     ("sift", And(Or(OLD, LIKE), Not(SIZE)).told(), ("pairing", ("through", "people", "p"), ("through", "cities",
+                                                                                             "c"))),
      "( through people as p ) pairing ( through cities as c ) | sift ( p.age > 11 or p.city = c.name ) and not p.age = "
      "c.size"),
     (Narrow(["p.age", "p.id"], THROUGH_P), [THROUGH_P], Keep(["p.age", "p.id"], P),

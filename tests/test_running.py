@@ -148,7 +148,8 @@ class PiecesTest(RunCase):
 
     def test_parts_without_rows(self):
         self.reader = reader_of({})
-        for plan, touched in ((P, 0), (Along("people", "p", "id", None, None), 1), (Sift(OLD, P), 0), (Pairing(P, C), 0),
+        for plan, touched in ((P, 0), (Along("people", "p", "id", None, None), 1), (Sift(OLD, P), 0), (Pairing(P, C),
+                                                                                                       0),
                               (Matching(P, C, [("p.city", "c.name")]), 0), (Grouping([], [COUNT], P), 0),
                               (Fetching(P, "cities", "c", "name", "p.city"), 0), (Narrow(["p.id"], P), 0),
                               (Ordering([("p.id", True)], P), 0), (Firsts(9, P), 0)):
