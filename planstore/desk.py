@@ -208,9 +208,9 @@ def run_line(desk, line):
 
 
 def follow_line(desk, line):
-    # the blank ahead of the steps may be the one ahead of the first colon: then no steps are told
+    # from the blank behind the first word on, as it may be the one ahead of the first colon: no steps are told then
     parts = line[len("follow"):].split(" : ", 1)
-    need_line(len(parts) == 2 and parts[0].startswith(" "))
+    need_line(len(parts) == 2)
     steps = steps_in(parts[0][1:])
     tree = read_question(parts[1])
     # the columns are refused ahead of the steps

@@ -158,7 +158,7 @@ def place_of(conds, wanted):
 
 def cond_steps(conds, wanted):
     steps = []
-    order = list(conds)
+    order = conds
     for to, cond in enumerate(wanted):
         place = to + place_of(order[to:], cond)
         steps.extend([("swap", (0,) * (turn + 1)) for turn in range(place - 1, to - 1, -1)])

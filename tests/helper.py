@@ -32,6 +32,24 @@ def small_schema():
     return Schema(TABLES, ORDERS)
 
 
+class AlikeToAll:
+    """A thing that says of all others that it is like them."""
+
+    def __eq__(self, other):
+        return True
+
+    def __hash__(self):
+        return 0
+
+
+def value(left, sign, right):
+    return Compare(left, sign, ("value", right))
+
+
+def column(left, sign, right):
+    return Compare(left, sign, ("column", right))
+
+
 def whole(disk):
     """All that a disk has, and how many writes have come."""
     return (disk.log_rows(), [disk.page(slot) for slot in range(8)], disk.writes())

@@ -3,8 +3,8 @@
 import random
 import unittest
 
-from helper import Case, Growth, PlanGrowth, SIGNS, reader_of, rows_by, small_schema
-from planstore.conditions import And, Compare, Not, Or
+from helper import Case, Growth, PlanGrowth, SIGNS, column, reader_of, rows_by, small_schema, value
+from planstore.conditions import And, Not, Or
 from planstore.costs import conds_of, cost_of, leaves_of, most_rows
 from planstore.figures import Figures
 from planstore.plain import plain_answer
@@ -18,14 +18,6 @@ P, Q, R, C, D = (Scan("people", "p"), Scan("people", "q"), Scan("people", "r"), 
                  Scan("cities", "d"))
 THROUGH_P, THROUGH_C = Through("people", "p"), Through("cities", "c")
 COUNT = ("count", None, "many")
-
-
-def value(left, sign, right):
-    return Compare(left, sign, ("value", right))
-
-
-def column(left, sign, right):
-    return Compare(left, sign, ("column", right))
 
 
 OLD = value("p.age", ">", 11)

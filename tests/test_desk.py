@@ -420,7 +420,7 @@ class NoLineTest(DeskCase):
 
     def test_steps_that_are_none_of_this_form(self):
         question = "table people as p | choose p.age > 1 and p.id < 9"
-        for steps in ("", "part", ".", "part .  , swap .", "part . ,swap .", "part ., swap .", "part . , ", " , part .",
+        for steps in ("", "part", "part ", "part . , swap ", ".", "part .  , swap .", "part . ,swap .", "part ., swap .", "part . , ", " , part .",
                       "part . , swap", "part . swap .", "part 2", "part 02", "part -1", "part 0 0", "part  .", " part .",
                       "part . ", "part ..", "part .0", "part 0.", "- , part .", "part . , -", "- -", "part 0,0", "--",
                       "part x", ",", "part . , , swap .", " .", "part (0,)"):

@@ -4,8 +4,8 @@ import itertools
 import random
 import unittest
 
-from helper import Case, ODD_THINGS, PlanGrowth, SIGNS, reader_of, rows_by, small_schema
-from planstore.conditions import And, Compare, Not, Or
+from helper import AlikeToAll, Case, ODD_THINGS, PlanGrowth, SIGNS, column, reader_of, rows_by, small_schema, value
+from planstore.conditions import And, Not, Or
 from planstore.costs import cost_of
 from planstore.figures import Figures
 from planstore.least import Weave, accesses, cost_by, least_table, plan_by, table_holds, ways_for
@@ -25,27 +25,11 @@ COUNT = ("count", None, "many")
 MADE = Grouping(["q.city"], [COUNT], THROUGH["q"])
 
 
-def value(left, sign, right):
-    return Compare(left, sign, ("value", right))
-
-
-def column(left, sign, right):
-    return Compare(left, sign, ("column", right))
-
-
 OLD = value("p.age", ">=", 12)
 OSLO = value("p.city", "=", "oslo")
 LIKE = column("p.city", "=", "c.name")
 SIZE = column("c.size", "=", "p.age")
 KEYS = column("p.id", "=", "q.id")
-
-
-class AlikeToAll:
-    def __eq__(self, other):
-        return True
-
-    def __hash__(self):
-        return 0
 
 
 class LeastCase(Case):
@@ -557,6 +541,22 @@ class HoldsTest(LeastCase):
         table = least_table(weave, self.figures)
         self.assertIs(table_holds(weave, table, self.figures), True)
         self.assertIs(table_holds(weave, {**table, 2: (table[2][0], ("through",))}, self.figures), False)
+
+    def test_tables_that_hold_together_but_are_dearer(self):
+        chance = random.Random(19)
+        seen = []
+        for turn in range(60):
+            self.read(rows_by(chance))
+            self.woven = weave_by(chance, self.schema, chance.randint(2, 4))
+            least = least_table(self.woven, self.figures)
+            table = {}
+            for mask in least:
+                way = least[mask][1] if chance.random() < 0.7 else chance.choice(ways_for(self.woven, mask))
+                table[mask] = (cost_by(self.woven, table, mask, way, self.figures), way)
+            right = [table[mask][0] for mask in table] == [least[mask][0] for mask in least]
+            self.assertIs(self.holds(table), right)
+            seen.append(right)
+        self.same((True in seen, False in seen), (True, True))
 
     def test_tables_by_chance(self):
         chance = random.Random(18)

@@ -3,8 +3,8 @@
 import random
 import unittest
 
-from helper import Case, ODD_KEYS, PlanGrowth, small_schema
-from planstore.conditions import And, Compare, Not, Or
+from helper import Case, ODD_KEYS, PlanGrowth, column, small_schema, value
+from planstore.conditions import And, Not, Or
 from planstore.errors import Alike, NoColumn, NoOrder, NoTable, WrongKind
 from planstore.plans import (Along, Fetching, Firsts, Grouping, Matching, Narrow, Ordering, Pairing, Plan, Sift,
                              Through, need_plan)
@@ -14,14 +14,6 @@ P, C, Q = Scan("people", "p"), Scan("cities", "c"), Scan("people", "q")
 THROUGH_P, THROUGH_C, THROUGH_Q = Through("people", "p"), Through("cities", "c"), Through("people", "q")
 COUNT = ("count", None, "many")
 SUMS = [COUNT, ("sum", "p.age", "all"), ("least", "p.city", "least")]
-
-
-def value(left, sign, right):
-    return Compare(left, sign, ("value", right))
-
-
-def column(left, sign, right):
-    return Compare(left, sign, ("column", right))
 
 
 OLD = value("p.age", ">", 11)

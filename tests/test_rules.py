@@ -3,8 +3,8 @@
 import random
 import unittest
 
-from helper import Case, Growth, ODD_THINGS, SIGNS, small_schema
-from planstore.conditions import And, Compare, Not, Or
+from helper import Case, Growth, ODD_THINGS, SIGNS, column, small_schema, value
+from planstore.conditions import And, Not, Or
 from planstore.makes import Makes
 from planstore.plain import plain_answer
 from planstore.readers import AtMake
@@ -24,14 +24,6 @@ P, Q, C = Scan("people", "p"), Scan("people", "q"), Scan("cities", "c")
 P_ALL, Q_ALL, C_ALL = (tuple(f"{alias}.{name}" for name in names) for alias, names in (
     ("p", ("id", "city", "age")), ("q", ("id", "city", "age")), ("c", ("name", "size"))))
 COUNT = ("count", None, "many")
-
-
-def value(left, sign, right):
-    return Compare(left, sign, ("value", right))
-
-
-def column(left, sign, right):
-    return Compare(left, sign, ("column", right))
 
 
 OLD = value("p.age", ">", 11)

@@ -3,8 +3,8 @@
 import random
 import unittest
 
-from helper import Case, Growth, reader_of, rows_by, small_schema
-from planstore.conditions import And, Compare, Not, Or
+from helper import Case, Growth, column, reader_of, rows_by, small_schema, value
+from planstore.conditions import And, Not, Or
 from planstore.costs import conds_of, leaves_of
 from planstore.papers import shows, walked
 from planstore.plain import plain_answer
@@ -16,14 +16,6 @@ P, Q, R, C, D = (Scan("people", "p"), Scan("people", "q"), Scan("people", "r"), 
                  Scan("cities", "d"))
 P_ALL, C_ALL, D_ALL = ["p.id", "p.city", "p.age"], ["c.name", "c.size"], ["d.name", "d.size"]
 COUNT = ("count", None, "many")
-
-
-def value(left, sign, right):
-    return Compare(left, sign, ("value", right))
-
-
-def column(left, sign, right):
-    return Compare(left, sign, ("column", right))
 
 
 OLD = value("p.age", ">", 11)
