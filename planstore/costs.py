@@ -80,11 +80,14 @@ class Bounds:
 
     # A cap is a tuple (leaf, beside, most): most is the greatest fan of the leaf where all leaves of beside are there.
     def caps_by(self, cond):
-        if is_with_value(cond):
-            return self.caps_by_value(cond)
-        if is_equality(cond):
-            return self.caps_by_column(cond.left, cond.right[1]) + self.caps_by_column(cond.right[1], cond.left)
-        return []
+        caps = []
+        for part in parted_conds(cond):
+            if is_with_value(part):
+                caps.extend(self.caps_by_value(part))
+            if is_equality(part):
+                caps.extend(self.caps_by_column(part.left, part.right[1]))
+                caps.extend(self.caps_by_column(part.right[1], part.left))
+        return caps
 
     def caps_by_value(self, cond):
         home = self.homes[cond.left]

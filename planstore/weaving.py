@@ -3,10 +3,10 @@
 from planstore.conditions import And
 from planstore.costs import parted_conds
 from planstore.rules import mirror_of
-from planstore.trees import Choose, Keep, Product, leaves_beneath
+from planstore.trees import Choose, Keep, Product
 
 # A rule that leads back, by the word of the one that leads there.
-BACK = {"outofone": "intoone", "outofother": "intoother", "regroupone": "regroupother"}
+BACK = {"part": "unite", "outofone": "intoone", "outofother": "intoother", "regroupone": "regroupother"}
 
 
 # The same steps, put to a tree that stands where the path leads.
@@ -168,19 +168,10 @@ def cond_steps(conds, wanted):
     return steps
 
 
-def conds_in_form(form):
-    conds = []
-    tree = form.part
-    while isinstance(tree, Choose):
-        conds.append(tree.cond)
-        tree = tree.part
-    return conds
-
-
 def steps_to(form, target, schema):
-    conds = conds_in_form(form)
-    came = gathered(target)
-    steps = leaf_steps(leaves_beneath(form), came.leaves, len(conds)) + cond_steps(conds, came.conds)
+    start = gathered(form)
+    end = gathered(target)
+    steps = start.steps + leaf_steps(start.leaves, end.leaves, len(start.conds)) + cond_steps(start.conds, end.conds)
     # now the leaves and conditions stand as those of the target's own one form, and what leads there leads back
-    back = [(BACK[word], path) for word, path in reversed(came.steps)]
+    back = [(BACK[word], path) for word, path in reversed(end.steps)]
     return steps + steps_beneath((0,), back)

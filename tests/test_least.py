@@ -241,6 +241,16 @@ class CostByTest(LeastCase):
                               (("fetching", 2, 1), other + 2 + 5 + 5)):
                 self.same(cost_by(weave, table, 3, way, self.figures), cost)
 
+    def test_an_and_bounds_by_all_that_it_is_made_of(self):
+        weave = self.weave([P, C], [And(LIKE, OSLO), And(OLD, And(OSLO, value("p.id", "<=", 3))), OLD])
+        self.same(accesses(weave, 0), [("through",), ("along", 2)])
+        self.same(cost_by(weave, {}, 1, ("through",), self.figures), 5 + 5 + 3)
+        table = {1: (9, ("through",)), 2: (4, ("through",))}
+        self.same(ways_for(weave, 3), [("pairing", 1, 2), ("pairing", 2, 1)])
+        self.same(cost_by(weave, table, 3, ("pairing", 1, 2), self.figures), 9 + 4 + 3 * 4 + 12)
+        weave = self.weave([P, C], [And(LIKE, OSLO), Or(OLD, LIKE)])
+        self.same(cost_by(weave, table, 3, ("pairing", 1, 2), self.figures), 9 + 4 + 5 * 4 + 20 + 3)
+
     def test_the_cost_of_the_plan_that_the_way_has(self):
         chance = random.Random(3)
         for turn in range(40):
@@ -277,8 +287,7 @@ def weave_by(chance, schema, many, few=False):
             conds.append(column(name, "=", chance.choice(others)))
         else:
             conds.append(growth.cond(columns, chance.choice([1, 1, 2])))
-    # an And is two conditions of a weave
-    return Weave(schema, leaves, [cond for cond in conds if not isinstance(cond, And)], made)
+    return Weave(schema, leaves, conds, made)
 
 
 class TableTest(LeastCase):

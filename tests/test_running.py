@@ -167,6 +167,12 @@ class PiecesTest(RunCase):
             ["q.id", "c.name"], Matching(one, other, [("p.city", "q.city")])))))
         self.runs(plan, [("oslo", 9)], (5 + 4) + (4 + 4 + 5) + (4 + 5 + 10) + 10 + 10)
 
+    def test_a_deep_plan(self):
+        plan = Along("people", "p", "id", None, None)
+        for turn in range(60):
+            plan = Sift(OLD, plan) if turn % 2 else Narrow(["p.age", "p.id"], plan)
+        self.runs(plan, [(12, 3), (30, -2), (30, 5), (30, 7)], 6 + 5 + 5 + 58 * 4)
+
     def test_a_matching_whose_pairs_stand_otherwise(self):
         rows = [one + other for one in PEOPLE for other in CITIES if one[1] == other[0]]
         self.runs(Matching(P, C, [("c.name", "p.city")]), rows, 23)

@@ -1,5 +1,6 @@
 """Weaves, their one forms, and papers to targets [131] to [133], and [3], [4] of them."""
 
+import itertools
 import random
 import unittest
 
@@ -221,6 +222,13 @@ class StepsToTest(WeavingCase):
         same = column("p.id", "=", "p.id")
         self.leads(one_form(["p.id"], [P, C], [same, LIKE]), Choose(LIKE, Product(C, Choose(same, P))))
 
+    def test_conditions_that_are_ands(self):
+        both = And(OLD, And(YOUNG, OLD))
+        form = one_form(["p.id"], [P, C], [both, LIKE, OLD])
+        self.leads(form, form.part)
+        self.leads(form, Choose(mirror(LIKE), Product(C, Choose(OLD, Choose(both, P)))))
+        self.leads(form, Choose(both, Choose(OLD, Choose(LIKE, Product(P, C)))))
+
     def test_leaves_that_are_no_scans(self):
         group, first = Group(["q.id"], [COUNT], Q), First(2, Sort([("d.size", True)], D))
         cond = column("many", "=", "d.size")
@@ -238,6 +246,24 @@ class StepsToTest(WeavingCase):
         for cond in conds:
             tree = Choose(mirror(cond) if cond.right[0] == "column" else cond, tree)
         self.assertLessEqual(len(self.leads(form, tree)), 4000)
+
+    def shapes(self, leaves):
+        if len(leaves) == 1:
+            return [leaves[0]]
+        return [Product(one, other) for cut in range(1, len(leaves)) for one in self.shapes(leaves[:cut])
+                for other in self.shapes(leaves[cut:])]
+
+    def test_each_order_and_shape_of_four_leaves(self):
+        conds = [LIKE, SIZES, column("q.id", "<", "p.age")]
+        form = one_form(["d.size", "p.id"], [P, C, D, Q], conds)
+        seen = set()
+        for leaves in itertools.permutations([P, C, D, Q]):
+            for tree in self.shapes(leaves):
+                for cond in conds:
+                    tree = Choose(cond, tree)
+                self.leads(form, tree)
+                seen.add(tree.told())
+        self.same(len(seen), 24 * 5)
 
     def shaped(self, chance, leaves):
         if len(leaves) == 1:
@@ -267,7 +293,7 @@ class StepsToTest(WeavingCase):
                       for leaf in leaves]
             columns = [named for leaf in leaves for named in leaf.columns_told(self.schema)]
             conds = [growth.cond(columns, chance.choice([1, 1, 2])) for cond in range(chance.randrange(7))]
-            conds = [cond for cond in conds if not isinstance(cond, And)]
+            conds = [part for cond in conds for part in conds_of(Choose(cond, P))]
             form = one_form(growth.some([name for name, kind in columns]), leaves, conds)
             target = self.shaped(chance, chance.sample(leaves, len(leaves)))
             for cond in chance.sample(conds, len(conds)):
