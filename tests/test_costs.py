@@ -293,7 +293,10 @@ class ByChanceTest(CostCase):
         """The bound of a tree, set by set as told."""
         return self.of_set(leaves_of(tree), conds_of(tree))
 
-    def test_bounds(self):
+    def nodes(self, tree):
+        return [tree] + [node for part in tree.parts() for node in self.nodes(part)]
+
+    def test_bounds_of_each_node(self):
         chance = random.Random(4)
         close = 0
         for turn in range(250):
@@ -305,10 +308,11 @@ class ByChanceTest(CostCase):
                 name, kind = chance.choice(names)
                 others = [other for other, of_kind in names if of_kind == kind]
                 tree = Choose(column(name, "=", chance.choice(others)), tree)
-            wanted = self.reckoned(tree)
-            self.bound(tree, wanted)
-            close += len(plain_answer(tree, self.schema, self.reader)[1]) == wanted > 0
-        self.assertGreater(close, 30)
+            for node in self.nodes(tree):
+                wanted = self.reckoned(node)
+                self.bound(node, wanted)
+                close += len(plain_answer(node, self.schema, self.reader)[1]) == wanted > 0
+        self.assertGreater(close, 300)
 
     def reckoned_cost(self, plan):
         word = plan.told()[0]
